@@ -1,0 +1,1 @@
+"""Proseknot: programs told in prose."""

@@ -1,0 +1,1 @@
+"""Tests of Proseknot: python3 -m unittest discover -s tests -t ."""
