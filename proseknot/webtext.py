@@ -42,6 +42,22 @@ def placed_lines(web):
     return placed
 
 
+def line_places(web):
+    """A dict of the places at which lines begin, by their (section, kind, number)."""
+    return {line[:3]: at for at, line in placed_lines(web)}
+
+
+def placed_arguments(at, use):
+    """The arguments of a use whose line begins at a place, each behind its own place."""
+    kind, indent, name, arguments = use
+    start = at + indent + len(name) + 2
+    placed = []
+    for argument in arguments:
+        placed.append((start, argument))
+        start += len(argument) + 1
+    return placed
+
+
 def web_text(web):
     """The text of a web."""
     check_web(web)

@@ -26,6 +26,12 @@ INTERFACE = {
         "web_text": ("web",), "read_web": ("text",), "line_starts": ("web",),
         "place_in": ("web", "section", "kind", "number", "column"), "told_at": ("web", "at"),
     },
+    "order": {
+        "faults": ("web",), "is_whole": ("web",), "circle_of": ("web", "name"), "circle_holds": ("web", "way"),
+        "in_order": ("web",), "reached": ("web", "name"), "unreached": ("web",),
+    },
+    "slots": {"parts_of": ("line", "params"), "filled": ("line", "params", "arguments")},
+    "tangling": {"tangled": ("web", "name"), "springs": ("web", "name"), "places_of": ("web", "at")},
 }
 
 BARRED_NODES = (ast.Global, ast.AsyncFunctionDef, ast.Await, ast.Div, ast.Import)
