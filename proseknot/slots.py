@@ -12,20 +12,26 @@ def slot_at(line, at, params):
 def parts_of(line, params):
     """The parts of a line from the left: its slots, and the texts between them."""
     parts = []
-    start = at = 0
-    while at < len(line):
+    start = 0
+    at = line.find("{")
+    while at >= 0:
         number = slot_at(line, at, params)
         if number is None:
-            at += 1
+            at = line.find("{", at + 1)
         else:
             if start < at:
                 parts.append(("text", start, at))
             start = at + len(params[number]) + 2
             parts.append(("slot", at, start, number))
-            at = start
-    if start < at:
-        parts.append(("text", start, at))
+            at = line.find("{", start)
+    if start < len(line):
+        parts.append(("text", start, len(line)))
     return tuple(parts)
+
+
+def slots_of(line, params):
+    """The parts of a line that are slots."""
+    return [part for part in parts_of(line, params) if part[0] == "slot"]
 
 
 def filled(line, params, arguments):

@@ -2,14 +2,14 @@
 
 from proseknot.errors import InvalidNumber, NoText
 from proseknot.order import check_whole
-from proseknot.spreading import file_lines
+from proseknot.spreading import file_lines, spans_text
 from proseknot.webs import file_names
 from proseknot.webtext import web_text
 from proseknot.woventext import woven_spans
 
 
 def asked_lines(web, name):
-    """The lines of a file, each (way, spans), for calls that ask for it."""
+    """The lines of a file, each (way, margin, spans), for calls that ask for it."""
     check_whole(web)
     if name not in file_names(web):
         raise NoText(name)
@@ -18,7 +18,7 @@ def asked_lines(web, name):
 
 def tangled(web, name):
     """The text of a file."""
-    return "".join([text for way, spans in asked_lines(web, name) for text, at in spans])
+    return "".join([spans_text(spans) for way, margin, spans in asked_lines(web, name)])
 
 
 def springs(web, name):
@@ -26,7 +26,7 @@ def springs(web, name):
     lines = asked_lines(web, name)
     return tuple([
         (sign, at + k, way)
-        for way, spans in lines
+        for way, margin, spans in lines
         for text, at in spans
         for k, sign in enumerate(text)
     ])
@@ -51,7 +51,7 @@ def places_of(web, at):
     check_whole(web)
     pairs = []
     for name in file_names(web):
-        spans = [span for way, row in file_lines(web, name) for span in row]
+        spans = [span for way, margin, row in file_lines(web, name) for span in row]
         pairs.extend([(name, place) for place in places_from(spans, at)])
     pairs.extend([("", place) for place in places_from(woven_spans(web), at)])
     return tuple(pairs)

@@ -7,8 +7,7 @@ from proseknot.errors import InvalidNumber, InvalidWeb, NotWhole, NoText
 from proseknot.order import faults
 from proseknot.webs import file_names
 from proseknot.webtext import line_starts, place_in, read_web, told_at, web_text
-from proseknot.woventext import woven_spans
-from tests.reference import file_springs, goes_to, whole_web, woven_signs
+from tests.reference import file_springs, goes_to, whole_web
 from tests.samples import EMPTY, GREET, LARGE, NO_WEBS, WIDE
 
 # Margins of uses in uses, lines that are empty or of blanks alone, a piece told in two sections and used twice.
@@ -239,39 +238,6 @@ class Places(unittest.TestCase):
 
     def test_by_name(self):
         self.assertEqual(tangling.places_of(at=3, web=GREET), (("", 11),))
-
-
-class WovenText(unittest.TestCase):
-    """[15] and [16], as far as places_of tells places of the woven text."""
-
-    def woven(self, web, *lines):
-        self.assertEqual("".join([text for text, at in woven_spans(web)]), "".join(line + "\n" for line in lines))
-
-    def test_the_web_without_sections(self):
-        self.woven(EMPTY, "Index")
-
-    def test_each_kind_of_line(self):
-        self.woven(
-            read_web("@\n.A b.\n.\n@\n=b(x,yy)\n|\n| {x}\n@\n*m()\n>   b(p q,{x})\n>c()\n@\n=b(x,yy)\n>c()\n>c()\n"
-                     "@\n=c()\n@\n=b(x,yy)\n"),
-            "Section 1.", "A b.", "",
-            "Section 2.", "b(x,yy) is", "  ", "   {x}", "See also 4, 6.", "Used in 3.",
-            "Section 3.", "file m() is", "     <b 2>(p q,{x})", "  <c 5>",
-            "Section 4.", "b(x,yy) goes on", "  <c 5>", "  <c 5>",
-            "Section 5.", "c() is", "Used in 3, 4.",
-            "Section 6.", "b(x,yy) goes on",
-            "Index", "b: 2, 4, 6.", "c: 5.", "m: 3.")
-
-    def test_a_file_in_two_sections(self):
-        self.woven(read_web("@\n*m()\n@\n*m()\n|a\n"), "Section 1.", "file m() is", "See also 2.",
-                   "Section 2.", "file m() goes on", "  a", "Index", "m: 1, 2.")
-
-    def test_from_where_its_signs_come(self):
-        for web in [EMPTY, GREET, NESTED, SHORT, LARGE] + MADE_UP:
-            told = []
-            for text, at in woven_spans(web):
-                told += [(sign, at if at is None else at + k) for k, sign in enumerate(text)]
-            self.assertEqual(tuple(told), woven_signs(web))
 
 
 class EachTakesAWeb(unittest.TestCase):
