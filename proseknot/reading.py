@@ -152,6 +152,28 @@ class Reader:
             sections.append(self.read_section())
         return tuple(sections)
 
+    def read_include(self):
+        """The word of an include, of which the first sign is passed already."""
+        word = self.read_word()
+        self.take("\n")
+        return word
+
+    def read_shelf_text(self):
+        """The sections of a text of a shelf, heads of one name perhaps unlike, and its includes.
+
+        Each is (start, end, section, word), the one of the latter two that it is not being None.
+        """
+        parts = []
+        while self.at < len(self.text):
+            start = self.at
+            section = word = None
+            if self.passed("<"):
+                word = self.read_include()
+            else:
+                section = self.read_section()
+            parts.append((start, self.at, section, word))
+        return parts
+
     def check_heads(self):
         """Raises InvalidText at the first head unlike an earlier one of its name."""
         earlier = {}

@@ -22,13 +22,14 @@ PLAIN = r"\|" + LINE + r"\n"
 USE = "> {0,20}" + WORD + r"\(" + joined(ARGUMENT) + r"\)\n"
 SECTION = r"@\n(?:\." + LINE + r"\n)*(?:(?:" + FILE + "|" + PIECE + ")(?:" + PLAIN + "|" + USE + ")*)?"
 TEXT = re.compile("(?:" + SECTION + ")*")
+SHELF_TEXT = re.compile("(?:" + SECTION + "|<" + WORD + r"\n)*")
 
 # Each begun line can be ended by one of these; three words so that one is unlike the two params ahead.
-ENDS = ("", "\n", "()\n", "a()\n", ")\n", "q)\n", "w)\n", "y)\n")
+ENDS = ("", "\n", "a\n", "()\n", "a()\n", ")\n", "q)\n", "w)\n", "y)\n")
 
 
-def can_be_read(text):
-    if TEXT.fullmatch(text) is None:
+def can_be_read(text, form=TEXT):
+    if form.fullmatch(text) is None:
         return False
     for line in text.split("\n"):
         if line.startswith("="):
@@ -38,18 +39,18 @@ def can_be_read(text):
     return True
 
 
-def can_go_on(text):
-    return any(can_be_read(text + end) for end in ENDS)
+def can_go_on(text, form):
+    return any(can_be_read(text + end, form) for end in ENDS)
 
 
-def first_fault(text):
+def first_fault(text, form=TEXT):
     """The place at which a text goes wrong or ends too early, None if it can be read."""
-    if can_be_read(text):
+    if can_be_read(text, form):
         return None
     low, high = 0, len(text) + 1
     while high - low > 1:
         middle = (low + high) // 2
-        if can_go_on(text[:middle]):
+        if can_go_on(text[:middle], form):
             low = middle
         else:
             high = middle

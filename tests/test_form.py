@@ -32,7 +32,34 @@ INTERFACE = {
     },
     "slots": {"parts_of": ("line", "params"), "filled": ("line", "params", "arguments")},
     "tangling": {"tangled": ("web", "name"), "springs": ("web", "name"), "places_of": ("web", "at")},
+    "weaving": {
+        "woven": ("web",), "woven_springs": ("web",), "text_names": ("web",), "text_of": ("web", "name"),
+    },
+    "edits": {
+        "is_edit": ("value",), "edited": ("text", "edit"), "is_paper": ("value",), "changed_by": ("texts", "paper"),
+        "shifted": ("edit", "paper", "name"),
+    },
+    "backing": {
+        "gone_back": ("web", "name", "edit"), "back_edit": ("web", "name", "edit"),
+        "undone_by": ("web", "name", "edit"),
+    },
+    "structure": {
+        "renamed": ("web", "name", "new"), "section_added": ("web", "number", "section"),
+        "section_dropped": ("web", "number"), "section_moved": ("web", "number", "to"),
+        "use_filled": ("web", "section", "number"), "split_off": ("web", "section", "number", "many", "name"),
+    },
+    "merging": {
+        "merged": ("web", "one", "other"), "paper_of_two": ("web", "one", "other"), "do_agree": ("web", "one", "other"),
+        "merged_all": ("web", "acts"), "greatest_lot": ("web", "acts"),
+    },
+    "shelves": {
+        "shelf_web": ("shelf", "word"), "shelf_springs": ("shelf", "word"),
+        "shelf_gone_back": ("shelf", "word", "name", "edit"),
+    },
+    "desk": {"Desk": ("text",), "replayed": ("text", "lines")},
 }
+
+DESK = {"web": (), "text": ("name",), "run": ("line",)}
 
 BARRED_NODES = (ast.Global, ast.AsyncFunctionDef, ast.Await, ast.Div, ast.Import)
 
@@ -46,6 +73,12 @@ class Interface(unittest.TestCase):
                 self.assertEqual(found.__module__, "proseknot." + file, name)
                 if parameters is not None:
                     self.assertEqual(tuple(inspect.signature(found).parameters), parameters, name)
+
+    def test_methods_and_the_field_of_a_desk(self):
+        kind = importlib.import_module("proseknot.desk").Desk
+        for name, parameters in DESK.items():
+            self.assertEqual(tuple(inspect.signature(kind.__dict__[name]).parameters), ("self",) + parameters, name)
+        self.assertIn("lines", vars(kind("")))
 
 
 class Form(unittest.TestCase):
